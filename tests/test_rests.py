@@ -41,6 +41,12 @@ class RestMadeTest(FormOfRests):
         self.assertEqual(rest_made([[10, 9], [2]]), ((2,), (9, 10)))
         self.assertEqual(rest_made([[10], [9]]), ((9,), (10,)))
 
+    def test_holes_far_apart_rise(self):
+        for row in itertools.permutations([0, 8, 33, 40]):
+            self.assertEqual(rest_made([row]), ((0, 8, 33, 40),))
+        for low, high in itertools.combinations(range(60), 2):
+            self.assertEqual(rest_made([[high, low]]), ((low, high),))
+
     def test_a_shorter_strip_does_not_come_first_for_its_length(self):
         self.assertEqual(rest_made([[1], [0, 2, 3]]), ((0, 2, 3), (1,)))
 
