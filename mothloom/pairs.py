@@ -1,6 +1,7 @@
 """Pairs: two holes of each strip for the moth to answer by, or a crowd of strips that has too few."""
 
 from mothloom.orders import has_all
+from mothloom.rests import each_once, members_of
 
 
 def has_a_pair(strip, pairs):
@@ -8,11 +9,8 @@ def has_a_pair(strip, pairs):
 
 
 def pairs_hold(pairs, rest):
-    holes = []
-    for pair in pairs:
-        holes.extend(pair)
     # This sees a pair of two like holes as well as a hole in two pairs.
-    if len(set(holes)) < len(holes):
+    if not each_once(members_of(pairs)):
         return False
     return all([has_a_pair(strip, pairs) for strip in rest])
 

@@ -1,14 +1,11 @@
 """Rests beside one another: joined, apart, and the pieces of one."""
 
 from mothloom.errors import NoRest
-from mothloom.rests import MOST_STRIPS, holes_of
+from mothloom.rests import MOST_STRIPS, each_once, holes_of, members_of
 
 
 def together(rests):
-    strips = []
-    for rest in rests:
-        strips.extend(rest)
-    return tuple(sorted(strips))
+    return tuple(sorted(members_of(rests)))
 
 
 def joined(rests):
@@ -19,10 +16,7 @@ def joined(rests):
 
 
 def are_apart(rests):
-    holes = []
-    for rest in rests:
-        holes.extend(holes_of(rest))
-    return len(set(holes)) == len(holes)
+    return each_once(members_of([holes_of(rest) for rest in rests]))
 
 
 def groups_with(groups, strip):

@@ -6,17 +6,28 @@ HOLE_COUNT = 60
 MOST_STRIPS = 60
 
 
-def is_hole(thing):
+def is_number_below(thing, bound):
     # Python counts a truth among the ints; here it is no whole number.
     if isinstance(thing, bool) or not isinstance(thing, int):
         return False
-    return 0 <= thing < HOLE_COUNT
+    return 0 <= thing < bound
+
+
+def members_of(rows):
+    members = []
+    for row in rows:
+        members.extend(row)
+    return members
+
+
+def each_once(members):
+    return len(set(members)) == len(members)
 
 
 def strip_made(row):
     # All members are looked at ahead of the set: what is no hole may not go into one.
     for thing in row:
-        if not is_hole(thing):
+        if not is_number_below(thing, HOLE_COUNT):
             raise NoRest("a strip has something that is no hole")
     return tuple(sorted(set(row)))
 
@@ -41,10 +52,7 @@ def bitten(rest, hole):
 
 
 def holes_of(rest):
-    holes = []
-    for strip in rest:
-        holes.extend(strip)
-    return sorted(set(holes))
+    return sorted(set(members_of(rest)))
 
 
 def is_whole(rest):

@@ -122,6 +122,91 @@ def faults_of(text):
     return faults
 
 
+def set_faults(tree):
+    """Calls of set that stand elsewhere than L24 tells."""
+    over = {}
+    for node in ast.walk(tree):
+        for child in ast.iter_child_nodes(node):
+            over[child] = node
+    faults = []
+    for node in ast.walk(tree):
+        if isinstance(node, ast.Call) and isinstance(node.func, ast.Name) and node.func.id == "set":
+            place = over[node]
+            while isinstance(place, ast.BinOp):
+                place = over[place]
+            called = isinstance(place, ast.Call) and isinstance(place.func, ast.Name)
+            if not isinstance(place, ast.Compare) and not (called and place.func.id in ("sorted", "len")):
+                faults.append("L24 set")
+    return faults
+
+
+def power_faults(tree):
+    powers = [node for node in ast.walk(tree) if isinstance(node, ast.BinOp) and isinstance(node.op, ast.Pow)]
+    return ["L27 power" for node in powers if not isinstance(node.right, ast.Constant)]
+
+
+def bound_names(tree):
+    """The parameters and locals of a file's defs."""
+    names = set()
+    for node in ast.walk(tree):
+        if isinstance(node, ast.FunctionDef):
+            names |= {parameter.arg for parameter in node.args.args}
+            for part in ast.walk(node):
+                if isinstance(part, ast.Name) and isinstance(part.ctx, ast.Store):
+                    names.add(part.id)
+    return names
+
+
+def tops(tree):
+    """The names that a file itself defines at its top."""
+    names = {node.name for node in tree.body if isinstance(node, (ast.FunctionDef, ast.ClassDef))}
+    for node in tree.body:
+        if isinstance(node, ast.Assign):
+            names |= {target.id for target in node.targets}
+    return names
+
+
+def drawn(tree):
+    """The files that a file draws from, each with the names."""
+    rows = [node for node in tree.body if isinstance(node, ast.ImportFrom)]
+    return {row.module.partition(".")[2]: {alias.name for alias in row.names} for row in rows}
+
+
+def reached(name, trees):
+    """The files that a file draws from, in whatever many steps."""
+    seen, waiting = set(), [name]
+    while waiting:
+        for other in drawn(trees[waiting.pop()]):
+            if other not in seen:
+                seen.add(other)
+                waiting.append(other)
+    return seen
+
+
+def package_faults(trees):
+    """The rules that files break together, as far as they are seen here."""
+    faults = []
+    methods, values = set(), set()
+    for name, tree in trees.items():
+        faults += set_faults(tree) + power_faults(tree)
+        classes = {node.name for node in tree.body if isinstance(node, ast.ClassDef)}
+        imported = set()
+        for other, names in drawn(tree).items():
+            imported |= names
+            if other not in trees or names - tops(trees[other]):
+                faults.append(f"L16 {name} draws from {other}")
+        if not [fault for fault in faults if fault.startswith("L16")] and name in reached(name, trees):
+            faults.append(f"L16 {name} draws from itself")
+        if bound_names(tree) & (classes | imported):
+            faults.append(f"L15 {name}")
+        for node in ast.walk(tree):
+            if isinstance(node, ast.ClassDef):
+                methods |= {part.name for part in node.body if isinstance(part, ast.FunctionDef)}
+            if isinstance(node, ast.Attribute) and isinstance(node.ctx, ast.Store):
+                values.add(node.attr)
+    return faults + [f"L18 {name}" for name in sorted(methods & values)]
+
+
 class LanguageTest(unittest.TestCase):
     def files(self):
         return [path for path in sorted(PACKAGE.rglob("*")) if "__pycache__" not in path.parts]
@@ -137,6 +222,24 @@ class LanguageTest(unittest.TestCase):
         for path in self.files():
             with self.subTest(path.name):
                 self.assertEqual(faults_of(path.read_bytes().decode("utf-8")), [])
+
+    def test_the_files_together_keep_to_the_rules(self):
+        self.assertEqual(package_faults({path.stem: ast.parse(path.read_text()) for path in self.files()}), [])
+
+    def test_files_that_break_a_rule_together_are_seen(self):
+        for files in (
+            {"a": "from mothloom.b import f\n", "b": "from mothloom.a import g\n"},
+            {"a": "from mothloom.b import f\ndef g():\n    pass\n", "b": "from mothloom.a import g\ndef f():\n    pass\n"},
+            {"a": "from mothloom.b import f\ndef g(f):\n    pass\n", "b": "def f():\n    pass\n"},
+            {"a": "from mothloom.b import f\ndef g():\n    f = 1\n", "b": "def f():\n    pass\n"},
+            {"a": "from mothloom.b import f\n", "b": "from mothloom.c import f\n", "c": "f = 1\n"},
+            {"a": "class A:\n    def f(self):\n        pass\n", "b": "class B:\n    def g(self):\n        self.f = 1\n"},
+            {"a": "def f(x):\n    return set(x)\n"},
+            {"a": "def f(x):\n    y = set(x) - set([1])\n    return len(y)\n"},
+            {"a": "def f(x):\n    return 2 ** x\n"},
+        ):
+            with self.subTest(files=files):
+                self.assertNotEqual(package_faults({name: ast.parse(text) for name, text in files.items()}), [])
 
     def test_files_that_break_a_rule_are_seen(self):
         for text in [

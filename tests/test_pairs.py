@@ -162,6 +162,12 @@ class OwnPairsTest(unittest.TestCase):
         self.assertEqual(self.check_told(((0, 1),) * 60), "crowd")
         self.assertEqual(self.check_told((tuple(range(60)),) * 31), "crowd")
 
+    def test_the_places_of_a_crowd_rise(self):
+        for low, high in itertools.combinations(range(20), 2):
+            strips = [(place, place + 30) for place in range(20)]
+            strips[low] = (low, high)
+            self.assertEqual(own_pairs(tuple(strips)), ("crowd", [low, high]))
+
     def test_a_first_choice_is_changed_for_a_later_strip(self):
         self.assertEqual(own_pairs(((0, 1, 2, 3), (0, 1))), ("pairs", [(2, 3), (0, 1)]))
         self.assertEqual(self.check_told(((0, 1, 2, 4), (0, 1, 3), (0, 3))), "crowd")
