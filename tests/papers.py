@@ -4,6 +4,8 @@ import functools
 import itertools
 import random
 
+from small import is_a_rest
+
 from mothloom.orders import thinned
 from mothloom.pairs import own_pairs
 from mothloom.pieces import pieces
@@ -239,13 +241,65 @@ def won_papers(seed, count, most_holes=4, most_strips=5, deep=2):
                 yield won_paper(chance, rest, turn, hand, deep), rest, turn, hand
 
 
+def papers_within(paper):
+    """The papers that stand in a paper, one step in."""
+    if paper[0] in ("bite", "knot", "fewer", "either"):
+        return [member for place, member in enumerate(paper) if place in (2, 4)]
+    return [row[-1] for row in paper[1]] if paper[0] in ("cases", "parts") else []
+
+
 def words_in(paper):
     """The words of a paper and of the papers in it."""
     told = [paper[0]]
-    if paper[0] in ("bite", "knot", "fewer", "either"):
-        within = [member for place, member in enumerate(paper) if place in (2, 4)]
-    else:
-        within = [row[-1] for row in paper[1]] if paper[0] in ("cases", "parts") else []
-    for other in within:
+    for other in papers_within(paper):
         told.extend(words_in(other))
     return told
+
+
+def deep_of(paper):
+    return 1 + max((deep_of(other) for other in papers_within(paper)), default=0)
+
+
+def papers_in(paper):
+    return 1 + sum(papers_in(other) for other in papers_within(paper))
+
+
+def is_a_hole(thing):
+    return type(thing) is int and 0 <= thing < 60
+
+
+def is_a_reply(thing):
+    return thing is None or is_a_hole(thing)
+
+
+def is_a_row_of(things, *kinds):
+    """A tuple of at most sixty tuples, their members of those kinds in turn."""
+    if type(things) is not tuple or len(things) > 60:
+        return False
+    return all(is_made_of(thing, *kinds) for thing in things)
+
+
+def is_made_of(thing, *kinds):
+    if type(thing) is not tuple or len(thing) != len(kinds):
+        return False
+    return all(kind(member) for kind, member in zip(kinds, thing))
+
+
+def is_a_paper(thing):
+    """Whether it is a paper as point 17 tells, kinds and rows and all."""
+    if type(thing) is not tuple or not thing:
+        return False
+    word, members = thing[0], thing[1:]
+    if word in ("bare", "whole", "weight"):
+        return members == ()
+    if word == "pairs":
+        return len(members) == 1 and is_a_row_of(members[0], is_a_hole, is_a_hole)
+    if word in ("bite", "knot"):
+        return is_made_of(members, is_a_reply, is_a_paper)
+    if word == "cases":
+        return len(members) == 1 and is_a_row_of(members[0], is_a_hole, is_a_reply, is_a_paper)
+    if word == "parts":
+        return len(members) == 1 and is_a_row_of(members[0], is_a_rest, is_a_paper)
+    if word == "fewer":
+        return is_made_of(members, is_a_rest, is_a_paper)
+    return word == "either" and is_made_of(members, is_a_rest, is_a_paper, is_a_rest, is_a_paper)

@@ -5,6 +5,7 @@ import random
 import unittest
 
 from papers import HANDS, OTHER
+from plays import told_of
 from small import is_a_rest
 
 from mothloom.errors import LoomError, NoDeed, NoHole, Over, Taken
@@ -12,12 +13,6 @@ from mothloom.looms import loom_made
 from mothloom.tables import Table
 
 NO_HOLES = [True, False, None, "", "0", "1", -1, -60, 60, 61, 10 ** 30, 1.0, 0.5, (), (1,), [], [1], {}, {1}, object()]
-
-
-def told_of(table):
-    return (
-        table.turn(), table.deeds(), table.knots(), table.bites(), table.free(), table.rest(), table.winner(),
-    )
 
 
 def due_of(loom, first, deeds):
