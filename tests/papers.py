@@ -303,3 +303,8 @@ def is_a_paper(thing):
     if word == "fewer":
         return is_made_of(members, is_a_rest, is_a_paper)
     return word == "either" and is_made_of(members, is_a_rest, is_a_paper, is_a_rest, is_a_paper)
+
+
+def keeps_the_bounds(paper):
+    """Whether it is a paper of point 17, at most thirty deep and four thousand in all."""
+    return is_a_paper(paper) and deep_of(paper) <= 30 and papers_in(paper) <= 4000

@@ -5,7 +5,7 @@ import itertools
 import random
 import unittest
 
-from papers import deep_of, is_a_paper, papers_in, took, wins
+from papers import keeps_the_bounds, took, wins
 from small import random_rest, small_rests
 
 from mothloom.checking import good
@@ -39,9 +39,7 @@ def within_three():
 
 class ThreatsTest(unittest.TestCase):
     def check_paper(self, paper, rest):
-        self.assertTrue(is_a_paper(paper))
-        self.assertLessEqual(deep_of(paper), 30)
-        self.assertLessEqual(papers_in(paper), 4000)
+        self.assertTrue(keeps_the_bounds(paper))
         self.assertTrue(good(paper, rest, "weaver", "weaver"))
 
     def check(self, rest, deep, due):

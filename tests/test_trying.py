@@ -5,7 +5,7 @@ import itertools
 import random
 import unittest
 
-from papers import HANDS, OTHER, deep_of, is_a_paper, papers_in, wins
+from papers import HANDS, OTHER, keeps_the_bounds, wins
 from small import random_rest, small_rests
 
 from mothloom.checking import good
@@ -25,9 +25,7 @@ class TryingTest(unittest.TestCase):
         self.assertIs(type(told), tuple)
         hand, paper = told
         self.assertEqual(hand, due)
-        self.assertTrue(is_a_paper(paper))
-        self.assertLessEqual(deep_of(paper), 30)
-        self.assertLessEqual(papers_in(paper), 4000)
+        self.assertTrue(keeps_the_bounds(paper))
         self.assertTrue(good(paper, rest, turn, hand))
         self.assertFalse(good(paper, rest, turn, OTHER[hand]))
         self.assertEqual(tried(rest, turn), told)
