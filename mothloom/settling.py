@@ -68,9 +68,10 @@ def moth_paper(rows, turn):
         if first_told[0] == "moth":
             parts.append((piece, first_told[1]))
         else:
-            # There is one such piece at most, and the moth is to move: here it bites at once.
-            reply = second_told[1][1]
-            parts.append((bitten(piece, reply), second_told[1][2]))
+            # There is one such piece at most, and the moth is to move: the paper of that piece is a bite.
+            bite = second_told[1]
+            reply = bite[1]
+            parts.append((bitten(piece, reply), bite[2]))
     return behind_bite(turn, reply, ("parts", tuple(parts)))
 
 
